@@ -1,0 +1,1 @@
+"""Broadrow: rows within rows, done many at once."""
