@@ -3,7 +3,8 @@
 import copy
 import random
 
-from broadrow.trees import binding, is_tree, parts, places
+from broadrow.kinds import is_kind
+from broadrow.trees import binding, parts, places
 
 NUM = ("num",)
 TRUTH = ("truth",)
@@ -188,12 +189,12 @@ class Maker:
         return ("times", bound, many, self.tree(kind, names, depth), self.tree(kind, {**names, bound: kind}, depth))
 
     def by_pick(self, kind, names, depth):
-        if not is_tree(("none", row(kind))):
+        if not is_kind(row(kind)):
             return self.leaf(kind, names)
         return ("pick", self.tree(row(kind), names, depth), self.tree(NUM, names, depth))
 
     def by_first(self, kind, names, depth):
-        if not is_tree(("none", row(kind))):
+        if not is_kind(row(kind)):
             return self.leaf(kind, names)
         if self.chance.random() < 0.5:
             return ("first", self.tree(pair(kind, NUM), names, depth))
@@ -219,7 +220,7 @@ class Maker:
         signs = ["one", "join", "keep", "each", "each", "each", "each"]
         signs += ["upto", "upto", "sums"] if kind[1] == NUM else []
         signs += ["cut"] if kind[1][0] == "row" else []
-        signs += ["flat"] if is_tree(("none", kind)) else []
+        signs += ["flat"] if is_kind(row(kind)) else []
         sign = self.chance.choice(signs)
         if sign == "each":
             bound, some = self.new_name(), self.kind(2)
