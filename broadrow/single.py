@@ -1,15 +1,17 @@
-"""What a single piece comes to by the worths of its parts: a tuple (worth, word), word None where it doesn't stop."""
+"""What a single piece comes to by the worths of its parts, or the word with which it stops."""
 
-GREATEST = 1000000000000000000
-LONGEST = 200
-MOST_TURNS = 60
+from broadrow.stops import beyond_word, cut_word, empty_word, great_word, keep_word, long_word, nought_word
+from broadrow.stops import sums_word, upto_word
 
 
 def done(piece, ins):
-    """What a piece that is no name, let, if, each or times comes to; its own parts are not looked at."""
+    """A tuple (worth, word), of a piece that is no name, let, if, each or times; its own parts are not looked at."""
+    word = WORDS[piece[0]](ins) if piece[0] in WORDS else None
+    if word is not None:
+        return (None, word)
     if piece[0] == "num":
         return (piece[1], None)
-    return DOINGS[piece[0]](ins)
+    return (DOINGS[piece[0]](ins), None)
 
 
 def own_copy(worth):
@@ -21,166 +23,126 @@ def own_copy(worth):
     return worth
 
 
-def turns_word(many):
-    """The word with which a times of so many turns stops, None where it goes on."""
-    return None if 0 <= many <= MOST_TURNS else "far"
-
-
-def is_small(number):
-    """Whether the number is not too great, either way."""
-    return -GREATEST <= number <= GREATEST
-
-
-def bounded(number):
-    """The number, unless it is too great."""
-    return (number, None) if is_small(number) else (None, "great")
-
-
-def short(row):
-    """The row, unless it is too long."""
-    return (row, None) if len(row) <= LONGEST else (None, "far")
+def in_rows(lengths, things):
+    """The things cut into rows of these lengths."""
+    rows = []
+    start = 0
+    for length in lengths:
+        rows.append(things[start:start + length])
+        start = start + length
+    return rows
 
 
 def do_yes(ins):
-    return (True, None)
+    return True
 
 
 def do_no(ins):
-    return (False, None)
+    return False
 
 
 def do_none(ins):
-    return ([], None)
+    return []
 
 
 def do_not(ins):
-    return (not ins[0], None)
+    return not ins[0]
 
 
 def do_first(ins):
-    return (ins[0][0], None)
+    return ins[0][0]
 
 
 def do_second(ins):
-    return (ins[0][1], None)
+    return ins[0][1]
 
 
 def do_one(ins):
-    return ([ins[0]], None)
+    return [ins[0]]
 
 
 def do_upto(ins):
-    if not 0 <= ins[0] <= LONGEST:
-        return (None, "far")
-    return (list(range(ins[0])), None)
+    return list(range(ins[0]))
 
 
 def do_long(ins):
-    return (len(ins[0]), None)
-
-
-def beginnings(row):
-    """The sums of all the row's beginnings, from that of no things to that of all."""
-    told = [0]
-    for number in row:
-        told.append(told[-1] + number)
-    return told
+    return len(ins[0])
 
 
 def do_sum(ins):
-    told = beginnings(ins[0])
-    if not all([is_small(number) for number in told]):
-        return (None, "great")
-    return (told[-1], None)
+    return sum(ins[0])
 
 
 def do_sums(ins):
-    told = beginnings(ins[0])
-    # The whole row's sum stands nowhere in what is told, and still it may not be too great.
-    if not all([is_small(number) for number in told]):
-        return (None, "great")
-    return (told[:-1], None)
+    told = []
+    total = 0
+    for number in ins[0]:
+        told.append(total)
+        total = total + number
+    return told
 
 
 def do_most(ins):
-    if len(ins[0]) == 0:
-        return (None, "empty")
-    return (max(ins[0]), None)
+    return max(ins[0])
 
 
 def do_flat(ins):
     things = []
     for row in ins[0]:
         things.extend(row)
-    return short(things)
+    return things
 
 
 def do_add(ins):
-    return bounded(ins[0] + ins[1])
+    return ins[0] + ins[1]
 
 
 def do_sub(ins):
-    return bounded(ins[0] - ins[1])
+    return ins[0] - ins[1]
 
 
 def do_mul(ins):
-    return bounded(ins[0] * ins[1])
+    return ins[0] * ins[1]
 
 
 def do_div(ins):
-    if ins[1] == 0:
-        return (None, "nought")
-    return (ins[0] // ins[1], None)
+    return ins[0] // ins[1]
 
 
 def do_rest(ins):
-    if ins[1] == 0:
-        return (None, "nought")
-    return (ins[0] % ins[1], None)
+    return ins[0] % ins[1]
 
 
 def do_less(ins):
-    return (ins[0] < ins[1], None)
+    return ins[0] < ins[1]
 
 
 def do_same(ins):
-    return (ins[0] == ins[1], None)
+    return ins[0] == ins[1]
 
 
 def do_both(ins):
-    return (ins[0] and ins[1], None)
+    return ins[0] and ins[1]
 
 
 def do_pair(ins):
-    return ((ins[0], ins[1]), None)
+    return (ins[0], ins[1])
 
 
 def do_pick(ins):
-    # A number below 0 would count from the end.
-    if not 0 <= ins[1] < len(ins[0]):
-        return (None, "beyond")
-    return (ins[0][ins[1]], None)
+    return ins[0][ins[1]]
 
 
 def do_join(ins):
-    return short(ins[0] + ins[1])
+    return ins[0] + ins[1]
 
 
 def do_keep(ins):
-    if len(ins[0]) != len(ins[1]):
-        return (None, "unlike")
-    return ([thing for thing, truth in zip(ins[0], ins[1]) if truth], None)
+    return [thing for thing, truth in zip(ins[0], ins[1]) if truth]
 
 
 def do_cut(ins):
-    if any([length < 0 for length in ins[1]]) or sum(ins[1]) != len(ins[0]):
-        return (None, "unlike")
-    rows = []
-    start = 0
-    for length in ins[1]:
-        rows.append(ins[0][start:start + length])
-        start = start + length
-    return (rows, None)
+    return in_rows(ins[1], ins[0])
 
 
 DOINGS = {
@@ -190,4 +152,60 @@ DOINGS = {
     "add": do_add, "sub": do_sub, "mul": do_mul, "div": do_div, "rest": do_rest,
     "less": do_less, "same": do_same, "both": do_both, "pair": do_pair,
     "pick": do_pick, "join": do_join, "keep": do_keep, "cut": do_cut,
+}
+
+
+def word_of_upto(ins):
+    return upto_word(ins[0])
+
+
+def word_of_sum(ins):
+    return sums_word(ins[0])
+
+
+def word_of_most(ins):
+    return empty_word(len(ins[0]))
+
+
+def word_of_flat(ins):
+    return long_word(sum([len(row) for row in ins[0]]))
+
+
+def word_of_add(ins):
+    return great_word(ins[0] + ins[1])
+
+
+def word_of_sub(ins):
+    return great_word(ins[0] - ins[1])
+
+
+def word_of_mul(ins):
+    return great_word(ins[0] * ins[1])
+
+
+def word_of_div(ins):
+    return nought_word(ins[1])
+
+
+def word_of_pick(ins):
+    return beyond_word(len(ins[0]), ins[1])
+
+
+def word_of_join(ins):
+    return long_word(len(ins[0]) + len(ins[1]))
+
+
+def word_of_keep(ins):
+    return keep_word(len(ins[0]), len(ins[1]))
+
+
+def word_of_cut(ins):
+    return cut_word(len(ins[0]), ins[1])
+
+
+# Of those signs alone that may stop; what they come to is asked for only where they don't.
+WORDS = {
+    "upto": word_of_upto, "sum": word_of_sum, "sums": word_of_sum, "most": word_of_most, "flat": word_of_flat,
+    "add": word_of_add, "sub": word_of_sub, "mul": word_of_mul, "div": word_of_div, "rest": word_of_div,
+    "pick": word_of_pick, "join": word_of_join, "keep": word_of_keep, "cut": word_of_cut,
 }

@@ -95,6 +95,22 @@ def no_list_twice(*things):
     return len(ids) == len(set(ids))
 
 
+def told_own(call, *given):
+    """Sees that no list that a call tells is handed in or told again, and that changes of one leave the others alone."""
+    told, again = call(*given), call(*given)
+    before, after = repr(given), repr(again)
+    if not no_list_twice(told, again, *given):
+        raise AssertionError(f"a list stands twice in {told!r}, {again!r}, {given!r}")
+    for one in lists_in(told):
+        one.append(99)
+    if (repr(given), repr(again), repr(call(*given))) != (before, after, after):
+        raise AssertionError(f"changed with what was told: {before}, {after}")
+    for one in lists_in(given):
+        one.append(98)
+    if repr(again) != after:
+        raise AssertionError(f"changed with what was handed in: {before}, {after}")
+
+
 def around(tree, place):
     """How many eaches have the place in their B, and times in their C."""
     many = 0

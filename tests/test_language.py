@@ -15,10 +15,13 @@ INTERFACE = {
     "programs": "is_program program_text read_program",
     "kinding": "kinds_of",
     "plain": "read",
+    "ledgers": "ledger",
+    "flats": "flat_of worths_of is_flat many_in size_in parted",
+    "taking": "taken behind kept merged spread first_ones",
 }
 
 # The package's own affair: what it holds may be drawn by others, whatever it is.
-OWN = ("single",)
+OWN = ("single", "reading", "stops", "widths")
 
 STATEMENTS = (
     ast.Assign, ast.AugAssign, ast.If, ast.While, ast.For, ast.Return, ast.Break, ast.Continue, ast.Pass, ast.Raise,
@@ -53,6 +56,8 @@ WORDS = re.compile(
     r"\b(type|typing|typing_extensions|enum|Enum|IntEnum|StrEnum|Flag|IntFlag|Generic|Protocol|ABC|ABCMeta|namedtuple"
     r"|NamedTuple|TypedDict|TYPE_CHECKING|abstractmethod)\b|dataclass|overload|contextmanager"
 )
+
+WALKERS = ("list", "tuple", "dict", "sorted", "sum", "any", "all", "enumerate", "zip")
 
 PYTHONS_OWN = set(dir(__builtins__) if not isinstance(__builtins__, dict) else __builtins__)
 VALUES_OWN = set().union(*[dir(one) for one in ("", 0, [], {}, set(), b"", ())])
@@ -240,6 +245,21 @@ class Language(unittest.TestCase):
                 self.assertNotIsInstance(node, (ast.Set, ast.SetComp))
                 if isinstance(node, ast.Call) and isinstance(node.func, ast.Name):
                     self.assertNotIn(node.func.id, ("set", "frozenset"))
+
+    def test_walked_at_once(self):
+        for path in files():
+            spots = [node.iter for node in defs(path, ast.For, ast.comprehension)]
+            for node in defs(path, ast.Call):
+                if isinstance(node.func, ast.Name) and node.func.id in WALKERS:
+                    spots += node.args[:1]
+                if isinstance(node.func, ast.Name) and node.func.id in ("min", "max") and len(node.args) == 1:
+                    spots += node.args
+                if isinstance(node.func, ast.Attribute) and node.func.attr == "join":
+                    spots += node.args
+            for node in defs(path, ast.Call):
+                name = getattr(node.func, "id", getattr(node.func, "attr", None))
+                if name in ("zip", "enumerate", "reversed", "range", "items", "keys", "values"):
+                    self.assertIn((node.lineno, node.col_offset), [(one.lineno, one.col_offset) for one in spots], path.name)
 
     def test_errors_are_taken_by_name(self):
         for path in files():
