@@ -2,8 +2,8 @@
 
 from broadrow.single import done
 from broadrow.stops import Stop, turns_word
-from broadrow.trees import binding, free_names, parts
-from broadrow.widths import if_width_once, turns_width_once, width_once
+from broadrow.trees import binding, parts
+from broadrow.widths import brought_names, if_width_once, turns_width_once, width_once
 
 
 class Book:
@@ -21,12 +21,11 @@ class Book:
         self.wide[meeting] = self.wide.get(meeting, 0) + width
 
     def brought_to(self, tree, number, place):
-        """The names that are brought to a part of the tree at a place: those free in it that the tree doesn't bind."""
+        """The names that are brought to a part of the tree at a place."""
         where = place + (number,)
         # A piece may be met again and again: its names are looked for once.
         if where not in self.brought:
-            bound = tree[1] if number == binding(tree) else None
-            self.brought[where] = [name for name in free_names(parts(tree)[number]) if name != bound]
+            self.brought[where] = brought_names(tree, number)
         return list(self.brought[where])
 
 

@@ -18,10 +18,12 @@ INTERFACE = {
     "ledgers": "ledger",
     "flats": "flat_of worths_of is_flat many_in size_in parted",
     "taking": "taken behind kept merged spread first_ones",
+    "wide": "wide_step",
+    "laid": "laid unlaid is_laid",
 }
 
 # The package's own affair: what it holds may be drawn by others, whatever it is.
-OWN = ("single", "reading", "stops", "widths")
+OWN = ("single", "reading", "stops", "widths", "alike")
 
 STATEMENTS = (
     ast.Assign, ast.AugAssign, ast.If, ast.While, ast.For, ast.Return, ast.Break, ast.Continue, ast.Pass, ast.Raise,

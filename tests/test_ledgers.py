@@ -240,6 +240,11 @@ class Met(Ledgers):
         self.tells("t truth : if t 1 div 1 0", [((), (), 1, 2), ((1,), (), 1, 1)], True)
         self.tells("t truth : if t div 1 0 1", [((), (), 1, 2), ((2,), (), 1, 1)], False)
 
+    def test_both_arms_of_one_if_with_unlike_names(self):
+        text = "r row num s row num : each x r if less x 2 x sum s"
+        self.assertEqual(self.at(text, (1,), [0, 5, 1, 7, 9], [1, 2, 3]), [((), 5, 2 * (1 + 1 + 1) + 3 * (1 + 4 + 1))])
+        self.assertEqual(self.at(text, (1,), [5, 0], [1, 2, 3]), [((), 2, (1 + 4 + 1) + (1 + 1 + 1))])
+
     def test_rounds_of_one_times(self):
         self.tells(": times x 3 1 add x x", [
             ((), (), 1, 4), ((0,), (), 1, 1), ((1,), (), 1, 1), ((2,), (0,), 1, 1), ((2,), (1,), 1, 1), ((2,), (2,), 1, 1),
