@@ -27,3 +27,8 @@ def sort_of(thing):
     if isinstance(thing, list):
         return "list"
     return "tuple" if isinstance(thing, tuple) else "none"
+
+
+def are_numbers(thing):
+    """Whether any thing is a tuple of whole numbers alone."""
+    return isinstance(thing, tuple) and all([sort_of(one) == "number" for one in thing])

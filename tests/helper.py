@@ -4,6 +4,7 @@ import copy
 import random
 
 from broadrow.kinds import is_kind
+from broadrow.plain import read
 from broadrow.trees import binding, parts, places
 
 NUM = ("num",)
@@ -137,6 +138,62 @@ def chain(many, end=("yes",)):
     for _ in range(many - 1):
         tree = ("not", tree)
     return tree
+
+
+class Tracker:
+    """Does a program that stops nowhere once more, one thing behind the other, and writes down of each meeting what it
+    came to, one worth behind the other, and of which meetings all that came by which it was done."""
+
+    def __init__(self, program, worths):
+        self.worths, self.waits = {}, {}
+        names = {head: (worth, None) for (head, _), worth in zip(program[0], worths)}
+        self.worth = self.do(program[1], (), names, (), ())[0]
+
+    def meet(self, place, rounds, worth, *waits):
+        self.worths.setdefault((place, rounds), []).append(worth)
+        self.waits.setdefault((place, rounds), set()).update(set(waits) - {None})
+        return worth, (place, rounds)
+
+    def do(self, tree, place, names, rounds, guards):
+        """A tuple: what the tree comes to, and of which meeting it comes; so are the names' worths told."""
+        way = {"name": self.do_name, "let": self.do_let, "if": self.do_if, "each": self.do_each, "times": self.do_times}
+        return way.get(tree[0], self.do_single)(tree, place, names, rounds, guards)
+
+    def part(self, number, tree, place, names, rounds, guards):
+        return self.do(parts(tree)[number], place + (number,), names, rounds, guards)
+
+    def do_single(self, tree, place, names, rounds, guards):
+        come = [self.part(at, tree, place, names, rounds, guards) for at in range(len(parts(tree)))]
+        heads = tuple([(head, NUM) for head in "ab"[:len(come)]])
+        piece = (tree[0], *[name(head) for head, _ in heads]) if come else tree
+        worth = read((heads, piece), [one for one, _ in come])[1]
+        return self.meet(place, rounds, worth, *[came for _, came in come], *guards)
+
+    def do_name(self, tree, place, names, rounds, guards):
+        return names[tree[1]]
+
+    def do_let(self, tree, place, names, rounds, guards):
+        first = self.part(0, tree, place, names, rounds, guards)
+        return self.part(1, tree, place, {**names, tree[1]: first}, rounds, guards)
+
+    def do_if(self, tree, place, names, rounds, guards):
+        truth, came = self.part(0, tree, place, names, rounds, guards)
+        worth, arm = self.part(1 if truth else 2, tree, place, names, rounds, guards + (came,))
+        return self.meet(place, rounds, worth, came, arm, *guards)
+
+    def do_each(self, tree, place, names, rounds, guards):
+        things, came = self.part(0, tree, place, names, rounds, guards)
+        told = [self.part(1, tree, place, {**names, tree[1]: (thing, came)}, rounds, guards + (came,)) for thing in things]
+        return self.meet(place, rounds, [worth for worth, _ in told], came, *[one for _, one in told], *guards)
+
+    def do_times(self, tree, place, names, rounds, guards):
+        many, came = self.part(0, tree, place, names, rounds, guards)
+        last = self.part(1, tree, place, names, rounds, guards)
+        waits = [came, last[1], *guards]
+        for turn in range(many):
+            last = self.part(2, tree, place, {**names, tree[1]: last}, rounds + (turn,), guards + (came,))
+            waits.append(last[1])
+        return self.meet(place, rounds, last[0], *waits)
 
 
 class Maker:

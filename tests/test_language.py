@@ -20,10 +20,13 @@ INTERFACE = {
     "taking": "taken behind kept merged spread first_ones",
     "wide": "wide_step",
     "laid": "laid unlaid is_laid",
+    "running": "run run_steps",
+    "waits": "waits",
+    "papers": "paper is_paper",
 }
 
 # The package's own affair: what it holds may be drawn by others, whatever it is.
-OWN = ("single", "reading", "stops", "widths", "alike")
+OWN = ("single", "reading", "stops", "widths", "alike", "frames", "course")
 
 STATEMENTS = (
     ast.Assign, ast.AugAssign, ast.If, ast.While, ast.For, ast.Return, ast.Break, ast.Continue, ast.Pass, ast.Raise,
