@@ -17,13 +17,14 @@ def paper(program, worths):
 
 def is_paper(program, worths, thing):
     """Whether any thing is a paper of the run of the program."""
-    steps = paper(program, worths)
-    if steps is None or not isinstance(thing, list) or len(thing) != len(steps):
+    waiting = waits(program, worths)
+    # Ahead of the paper itself, which may be far greater than any thing.
+    if waiting is None or not isinstance(thing, list) or len(thing) != len(waiting):
         return False
     due = {}
-    for step in steps:
+    for step in paper(program, worths):
         due[step[:2]] = step
-    return all([is_step(one, due) for one in thing]) and is_in_order(thing, waits(program, worths))
+    return all([is_step(one, due) for one in thing]) and is_in_order(thing, waiting)
 
 
 def is_step(thing, due):

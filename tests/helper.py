@@ -311,3 +311,80 @@ class Maker:
         while len(places(tree)) > 200:
             tree = self.tree(self.kind(3), dict(heads), depth)
         return (heads, tree), [self.worth(kind) for _, kind in heads]
+
+
+class Ruler(Maker):
+    """Makes programs in which many trees stand that rules may put otherwise, and many that they nearly may."""
+
+    def tree(self, kind, names, depth):
+        if depth <= 2 or self.chance.random() < 0.45:
+            return Maker.tree(self, kind, names, depth)
+        ways = [self.any_let, self.any_alias, self.any_if, self.any_pair, self.any_one, self.any_never, self.any_pick]
+        own = {"num": self.some_num, "truth": self.some_truth, "pair": self.some_pair, "row": self.some_row}[kind[0]]
+        return self.chance.choice(ways + [own] * 5)(kind, names, depth - 1)
+
+    def any_let(self, kind, names, depth):
+        return ("let", self.new_name(), self.tree(self.kind(2), names, depth), self.tree(kind, names, depth))
+
+    def any_alias(self, kind, names, depth):
+        if not names:
+            return self.any_let(kind, names, depth)
+        bound, other = self.new_name(), self.chance.choice(sorted(names))
+        return ("let", bound, name(other), self.tree(kind, {**names, bound: names[other]}, depth))
+
+    def any_if(self, kind, names, depth):
+        one, other, truth = self.tree(kind, names, depth), self.tree(kind, names, depth), self.tree(TRUTH, names, depth)
+        return self.chance.choice([("if", ("yes",), one, other), ("if", ("no",), one, other), ("if", truth, one, one), ("if", ("not", truth), one, other)])
+
+    def any_pair(self, kind, names, depth):
+        if not is_kind(row(kind)):
+            return self.leaf(kind, names)
+        one, other = self.tree(kind, names, depth), self.tree(self.kind(1), names, depth)
+        return self.chance.choice([("first", ("pair", one, other)), ("second", ("pair", other, one))])
+
+    def any_one(self, kind, names, depth):
+        if not is_kind(row(kind)):
+            return self.leaf(kind, names)
+        one = ("one", self.tree(kind, names, depth))
+        return ("flat", one) if kind[0] == "row" and self.chance.random() < 0.5 else ("pick", one, num(0))
+
+    def any_never(self, kind, names, depth):
+        bound = self.new_name()
+        return ("times", bound, num(0), self.tree(kind, names, depth), self.tree(kind, {**names, bound: kind}, depth))
+
+    def each(self, kind, names, depth):
+        """An each that comes to a row of the kind."""
+        bound, some = self.new_name(), self.chance.choice([NUM, TRUTH, self.kind(2)])
+        return ("each", bound, self.tree(row(some), names, depth), self.tree(kind, {**names, bound: some}, depth))
+
+    def any_pick(self, kind, names, depth):
+        if not is_kind(row(kind)):
+            return self.leaf(kind, names)
+        return ("pick", self.each(kind, names, depth), self.chance.choice([num(0), num(1), self.tree(NUM, names, depth)]))
+
+    def some_num(self, kind, names, depth):
+        one, other = self.tree(NUM, names, depth), num(self.chance.choice([0, 1, 5, GREAT]))
+        sign = self.chance.choice(["add", "sub", "mul", "div", "rest"])
+        return self.chance.choice([
+            (sign, one, one), (sign, one, num(0)), (sign, one, num(1)), (sign, num(0), one), (sign, num(1), one), (sign, other, num(3)),
+            ("long", self.each(self.kind(2), names, depth)),
+        ])
+
+    def some_truth(self, kind, names, depth):
+        one, number = self.tree(TRUTH, names, depth), self.tree(NUM, names, depth)
+        return self.chance.choice([
+            ("both", ("yes",), one), ("both", one, ("yes",)), ("both", one, one), ("not", ("not", one)), ("less", number, number), ("same", number, number),
+        ])
+
+    def some_pair(self, kind, names, depth):
+        one = self.tree(kind[1], names, depth)
+        return ("pair", one, one if kind[1] == kind[2] else self.tree(kind[2], names, depth))
+
+    def some_row(self, kind, names, depth):
+        one, bound, some = self.tree(kind, names, depth), self.new_name(), self.kind(2)
+        ways = [("join", ("none", kind[1]), one), ("join", one, ("none", kind[1])), ("join", one, one), ("each", bound, one, name(bound))]
+        ways += [("each", bound, self.each(some, names, depth), self.tree(kind[1], {**names, bound: some}, depth))] * 2
+        if is_kind(row(kind)):
+            inner = self.each(kind[1], names, depth)
+            ways.append(("flat", inner[:3] + (("one", inner[3]),)))
+        return self.chance.choice(ways)

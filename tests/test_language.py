@@ -23,10 +23,14 @@ INTERFACE = {
     "running": "run run_steps",
     "waits": "waits",
     "papers": "paper is_paper",
+    "rules": "is_sure fitting put_otherwise now_at",
+    "chains": "is_chain settled",
+    "hands": "timetable is_timetable shown shows",
+    "desk": "Desk",
 }
 
 # The package's own affair: what it holds may be drawn by others, whatever it is.
-OWN = ("single", "reading", "stops", "widths", "alike", "frames", "course")
+OWN = ("single", "reading", "stops", "widths", "alike", "frames", "course", "patterns", "recast")
 
 STATEMENTS = (
     ast.Assign, ast.AugAssign, ast.If, ast.While, ast.For, ast.Return, ast.Break, ast.Continue, ast.Pass, ast.Raise,
@@ -191,6 +195,9 @@ class Language(unittest.TestCase):
                 if isinstance(node, ast.Constant):
                     self.assertIsInstance(node.value, (int, str, type(None)), where)
                     self.assertNotIn("%", str(node.value), where)
+                if isinstance(node, ast.FormattedValue):
+                    self.assertIsInstance(node.value, ast.Name, where)
+                    self.assertIsNone(node.format_spec, where)
                 if isinstance(node, ast.ListComp):
                     self.assertEqual(len(node.generators), 1, where)
                     self.assertLessEqual(len(node.generators[0].ifs), 1, where)
