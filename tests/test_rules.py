@@ -197,6 +197,12 @@ class Fits(unittest.TestCase):
             program = ((("r", row(kind)),), ("pick", ("each", "x", ("name", "r"), ("one", ("name", "x"))), num(0)))
             self.assertEqual(("picked", ()) in fitting(program), fits, kind)
 
+    def test_picked_by_a_name_that_is_free_in_both(self):
+        # Of programs that have kinds there is none: there nothing around binds a name that is bound within.
+        misfit(program_of("pick each x r one x x"), "picked", ())
+        misfit(program_of("pick each x r one x long one x"), "picked", ())
+        self.assertIn(("picked", ()), fitting(program_of("pick each x r one x let x 0 x")))
+
     def test_rules_and_places_that_are_none(self):
         program = program_of("add mul a b 0")
         self.assertEqual(put_otherwise(program, "nought", ()), program_of("mul a b"))
